@@ -1,0 +1,1 @@
+"""Onceswapped: swaps whose order was lost."""

@@ -1,0 +1,45 @@
+import doctest
+import inspect
+import os
+import unittest
+
+import onceswapped
+from onceswapped import arrange, forests
+
+INTERFACE = {
+    forests: {"is_forest": ["thing"], "neighbours": ["forest", "position"], "degrees": ["forest"],
+              "trees": ["forest"], "path": ["forest", "start", "end"]},
+    arrange: {"is_arrangement": ["n", "thing"], "apply_order": ["forest", "items", "order"],
+              "moves": ["forest", "before", "after"], "rings": ["forest", "before", "after"]},
+}
+
+
+class Interface(unittest.TestCase):
+    def test_names_and_arguments(self):
+        for module, functions in INTERFACE.items():
+            for name, names in functions.items():
+                parameters = inspect.signature(getattr(module, name)).parameters.values()
+                self.assertEqual([p.name for p in parameters], names)
+                for p in parameters:
+                    self.assertEqual(p.kind, p.POSITIONAL_OR_KEYWORD)
+                    self.assertIs(p.default, p.empty)
+
+    def test_functions_are_defined_in_their_file(self):
+        for module, functions in INTERFACE.items():
+            for name in functions:
+                self.assertEqual(getattr(module, name).__module__, module.__name__)
+
+    def test_the_package_holds_python_files_only(self):
+        names = os.listdir(os.path.dirname(onceswapped.__file__))
+        others = [name for name in names if not name.endswith(".py") and name != "__pycache__"]
+        self.assertEqual(others, [])
+
+    def test_the_examples_of_the_readme(self):
+        readme = os.path.join(os.path.dirname(__file__), "..", "README.md")
+        failed, tried = doctest.testfile(readme, module_relative=False)
+        self.assertEqual(failed, 0)
+        self.assertGreater(tried, 0)
+
+
+if __name__ == "__main__":
+    unittest.main()
