@@ -37,9 +37,14 @@ def check_arrangement(n, items):
         raise NoArrangement("this is no arrangement")
 
 
-def check_rearranged(before, after):
-    """Raise NoArrangement if after, any object, is no arrangement of the items of before."""
-    check_arrangement(len(before), after)
+def check_change(forest, before, after):
+    """Raise the first error of these three arguments, any objects.
+
+    After must be an arrangement of the items of before.
+    """
+    check_forest(forest)
+    check_arrangement(forest[0], before)
+    check_arrangement(forest[0], after)
     if sorted(after) != sorted(before):
         raise NoArrangement("these are not the items of the arrangement before")
 
@@ -50,22 +55,25 @@ def check_order(forest, order):
         raise NoOrder("this is no order of the edges")
 
 
+def swapped(items, edges):
+    """Return the arrangement after the swaps at some edges, one after the other."""
+    result = list(items)
+    for p, q in edges:
+        result[p], result[q] = result[q], result[p]
+    return result
+
+
 def apply_order(forest, items, order):
     """Return the arrangement after the swaps of an order."""
     check_forest(forest)
     check_arrangement(forest[0], items)
     check_order(forest, order)
-    result = list(items)
-    for p, q in order:
-        result[p], result[q] = result[q], result[p]
-    return result
+    return swapped(items, order)
 
 
 def moves(forest, before, after):
     """Return for every position where the item that started there ends."""
-    check_forest(forest)
-    check_arrangement(forest[0], before)
-    check_rearranged(before, after)
+    check_change(forest, before, after)
     return [after.index(item) for item in before]
 
 

@@ -1,6 +1,6 @@
 """Forests of position pairs, and what is read off them."""
 
-from onceswapped.errors import NoForest, NoPosition
+from onceswapped.errors import NoEdge, NoForest, NoPosition
 
 MOST_POSITIONS = 40
 
@@ -62,6 +62,24 @@ def check_position(forest, position):
         raise NoPosition("the forest has no such position")
 
 
+def is_edge_of(forest, thing):
+    """Return whether a thing, any object, is an edge of a valid forest."""
+    n, edges = forest
+    # Python takes (0, True) for equal to (0, 1), so looking it up alone would let it pass.
+    return is_edge(n, thing) and thing in edges
+
+
+def check_edge(forest, edge):
+    """Raise NoEdge if the argument is no edge of a valid forest."""
+    if not is_edge_of(forest, edge):
+        raise NoEdge("the forest has no such edge")
+
+
+def edge_between(p, q):
+    """Return the edge of two neighbours, given in either order."""
+    return (min(p, q), max(p, q))
+
+
 def neighbour_lists(forest):
     """Return for every position of a valid forest the ascending list of its neighbours."""
     n, edges = forest
@@ -90,6 +108,11 @@ def steps_towards(forest, goal):
     return steps
 
 
+def tree_lists(forest):
+    """Return for every position of a valid forest the ascending list of its tree's positions."""
+    return [sorted(steps_towards(forest, position)) for position in range(forest[0])]
+
+
 def neighbours(forest, position):
     """Return the ascending list of the neighbours of a position."""
     check_forest(forest)
@@ -106,8 +129,7 @@ def degrees(forest):
 def trees(forest):
     """Return the trees, each as an ascending list of positions, in ascending order."""
     check_forest(forest)
-    tree_of = [sorted(steps_towards(forest, position)) for position in range(forest[0])]
-    return [tree for position, tree in enumerate(tree_of) if tree[0] == position]
+    return [tree for position, tree in enumerate(tree_lists(forest)) if tree[0] == position]
 
 
 def path(forest, start, end):

@@ -8,6 +8,10 @@ A = (5, [(0, 1), (1, 2), (1, 3)])
 P = (4, [(0, 1), (1, 2), (2, 3)])
 LETTERS = "abcdefghijklmnopqrstuvwxyz"
 BIG = int("123456789012" * 5)
+BAD_ITEMS = (
+    "", "a" * 9, "abcdefghi", "a" * 4000, "A", "aB", "Ab", "a1", "1", "0", "a b", " a", "a ", " ",
+    "a\n", "\n", "a-b", "a_b", "?", ".", "`", "{", "\u00e4", "\u00df", "a\u00e9", "\u03b1",
+    "\u0430", "\uff41", "\u00aa", None, True, False, 0, 1, -1, BIG, (), [], ["b"], ("b",), ("b", 1))
 
 
 def path_forest(n):
@@ -105,6 +109,36 @@ def odd_objects():
         [nested(list, 19), nested(tuple, 19)], (5, nested(list, 19)), (nested(tuple, 19), []),
         (5, nested(tuple, 19)), (5, [nested(tuple, 18)]), (5, [(0, 1), nested(list, 18)]),
     ]
+
+
+def bad_arrangements(items):
+    """Objects that are no arrangement of as many items as the given ones."""
+    found = [tuple(items), items[:-1], items + ["zz"], items + items[:1], items[:-1] + items[:1],
+             [items], (items,), "".join(items), " ".join(items), [items, items]]
+    found += [items[:-1] + [thing] for thing in BAD_ITEMS]
+    found += [[thing] + items[1:] for thing in BAD_ITEMS]
+    return [thing for thing in found + odd_objects() if not spelled_out(thing, len(items))]
+
+
+def spelled_out(thing, n):
+    """Whether a thing is an arrangement, said in another way than the program says it."""
+    if type(thing) is not list or [type(entry) for entry in thing] != [str] * n:
+        return False
+    if any(thing.count(entry) != 1 for entry in thing):
+        return False
+    return all(0 < len(entry) < 9 and not entry.strip(LETTERS) for entry in thing)
+
+
+def bad_orders(edges):
+    """Objects that are no order of these edges, at least two."""
+    p, q = edges[0]
+    found = [tuple(edges), edges[1:], edges[:-1], edges + edges[:1], edges[:1] + edges[:-1],
+             edges[1:] + edges[1:2], edges + edges, [edges], (edges,), edges + [None],
+             [None] + edges[1:], edges + [[]], str(edges)]
+    for thing in ((q, p), [p, q], (p, p), (q, q), (p, q, q), (p,), (), (p, q + 40), (p, BIG),
+                  (-1, q), (str(p), str(q)), (p, None), (p, [q]), ((p, q),), f"{p}-{q}", p, "ab"):
+        found += [[thing] + edges[1:], edges[1:] + [thing]]
+    return found + [thing for thing in odd_objects() if thing != edges]
 
 
 def lists_inside(thing):

@@ -5,64 +5,11 @@ from itertools import permutations, product
 from onceswapped.arrange import apply_order, is_arrangement, moves, rings
 from onceswapped.errors import NoArrangement, NoForest, NoOrder
 from onceswapped.forests import trees
+from tests.oracle import cross, inverse, read_from, turns_by
 from tests.samples import (
-    A, BIG, LETTERS, P, all_forests, all_orders, error_of, items_for, lists_inside, mixed_forest,
-    nested, odd_objects, path_forest, shuffled, sized_forests, star_forest)
-
-BAD_ITEMS = (
-    "", "a" * 9, "abcdefghi", "a" * 4000, "A", "aB", "Ab", "a1", "1", "0", "a b", " a", "a ", " ",
-    "a\n", "\n", "a-b", "a_b", "?", ".", "`", "{", "\u00e4", "\u00df", "a\u00e9", "\u03b1",
-    "\u0430", "\uff41", "\u00aa", None, True, False, 0, 1, -1, BIG, (), [], ["b"], ("b",), ("b", 1))
-
-
-def bad_arrangements(items):
-    """Objects that are no arrangement of as many items as the given ones."""
-    found = [tuple(items), items[:-1], items + ["zz"], items + items[:1], items[:-1] + items[:1],
-             [items], (items,), "".join(items), " ".join(items), [items, items]]
-    found += [items[:-1] + [thing] for thing in BAD_ITEMS]
-    found += [[thing] + items[1:] for thing in BAD_ITEMS]
-    return [thing for thing in found + odd_objects() if not spelled_out(thing, len(items))]
-
-
-def spelled_out(thing, n):
-    """Whether a thing is an arrangement, said in another way than the program says it."""
-    if type(thing) is not list or [type(entry) for entry in thing] != [str] * n:
-        return False
-    if any(thing.count(entry) != 1 for entry in thing):
-        return False
-    return all(0 < len(entry) < 9 and not entry.strip(LETTERS) for entry in thing)
-
-
-def bad_orders(edges):
-    """Objects that are no order of these edges, at least two."""
-    p, q = edges[0]
-    found = [tuple(edges), edges[1:], edges[:-1], edges + edges[:1], edges[:1] + edges[:-1],
-             edges[1:] + edges[1:2], edges + edges, [edges], (edges,), edges + [None],
-             [None] + edges[1:], edges + [[]], str(edges)]
-    for thing in ((q, p), [p, q], (p, p), (q, q), (p, q, q), (p,), (), (p, q + 40), (p, BIG),
-                  (-1, q), (str(p), str(q)), (p, None), (p, [q]), ((p, q),), f"{p}-{q}", p, "ab"):
-        found += [[thing] + edges[1:], edges[1:] + [thing]]
-    return found + [thing for thing in odd_objects() if thing != edges]
-
-
-def inverse(to):
-    return [to.index(p) for p in range(len(to))]
-
-
-def turns(forest, order):
-    return [[p + q - at for p, q in order if at in (p, q)] for at in range(forest[0])]
-
-
-def read_from(ring, start):
-    at = ring.index(start)
-    return ring[at:] + ring[:at]
-
-
-def cross(ring, e, f):
-    if len(set(e + f)) < 4:
-        return False
-    around = [p in e for p in ring if p in e + f]
-    return around in ([True, False, True, False], [False, True, False, True])
+    A, BAD_ITEMS, LETTERS, P, all_forests, all_orders, bad_arrangements, bad_orders, error_of,
+    items_for, lists_inside, mixed_forest, nested, odd_objects, path_forest, shuffled, sized_forests,
+    spelled_out, star_forest)
 
 
 def satisfies_r1(forest, found):
@@ -249,7 +196,7 @@ class Results(unittest.TestCase):
         for k, forest in enumerate(sized_forests()):
             before = items_for(forest[0])
             order = shuffled(forest[1], k + 50)
-            expected = turns(forest, order)
+            expected = turns_by(forest, order)
             for ring in rings(forest, before, apply_order(forest, before, order)):
                 for p in ring:
                     read = [q for q in read_from(ring, p) if q in expected[p]]

@@ -4,13 +4,21 @@ import os
 import unittest
 
 import onceswapped
-from onceswapped import arrange, forests
+from onceswapped import arrange, forests, judge, precede, turns
 
+CHANGE = ["forest", "before", "after"]
 INTERFACE = {
     forests: {"is_forest": ["thing"], "neighbours": ["forest", "position"], "degrees": ["forest"],
               "trees": ["forest"], "path": ["forest", "start", "end"]},
     arrange: {"is_arrangement": ["n", "thing"], "apply_order": ["forest", "items", "order"],
-              "moves": ["forest", "before", "after"], "rings": ["forest", "before", "after"]},
+              "moves": CHANGE, "rings": CHANGE},
+    turns: {"is_turns": ["forest", "thing"], "turns_of_order": ["forest", "order"],
+            "after_turns": ["forest", "items", "turns"], "order_of_turns": ["forest", "turns"]},
+    judge: {"can_be": CHANGE, "reason": CHANGE, "shows": CHANGE + ["thing"], "turns_of": CHANGE},
+    precede: {"must_precede": CHANGE, "precedes": CHANGE + ["one", "other"], "first_edges": CHANGE,
+              "last_edges": CHANGE, "least_order": CHANGE, "orders_counted": CHANGE,
+              "order_fits": CHANGE + ["thing"], "exchanged": CHANGE + ["edge"],
+              "left_out": CHANGE + ["edge"]},
 }
 
 
