@@ -108,6 +108,17 @@ def steps_towards(forest, goal):
     return steps
 
 
+def way_between(forest, start, end):
+    """Return the path between two positions of a valid forest, or None between two trees."""
+    steps = steps_towards(forest, end)
+    if start not in steps:
+        return None
+    way = [start]
+    while way[-1] != end:
+        way.append(steps[way[-1]])
+    return way
+
+
 def tree_lists(forest):
     """Return for every position of a valid forest the ascending list of its tree's positions."""
     return [sorted(steps_towards(forest, position)) for position in range(forest[0])]
@@ -137,10 +148,4 @@ def path(forest, start, end):
     check_forest(forest)
     check_position(forest, start)
     check_position(forest, end)
-    steps = steps_towards(forest, end)
-    if start not in steps:
-        return None
-    way = [start]
-    while way[-1] != end:
-        way.append(steps[way[-1]])
-    return way
+    return way_between(forest, start, end)

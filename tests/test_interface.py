@@ -4,9 +4,10 @@ import os
 import unittest
 
 import onceswapped
-from onceswapped import arrange, forests, judge, precede, turns
+from onceswapped import arrange, forests, judge, outcomes, partial, precede, shares, turns
 
 CHANGE = ["forest", "before", "after"]
+SEEN = ["forest", "before", "seen"]
 INTERFACE = {
     forests: {"is_forest": ["thing"], "neighbours": ["forest", "position"], "degrees": ["forest"],
               "trees": ["forest"], "path": ["forest", "start", "end"]},
@@ -19,6 +20,13 @@ INTERFACE = {
               "last_edges": CHANGE, "least_order": CHANGE, "orders_counted": CHANGE,
               "order_fits": CHANGE + ["thing"], "exchanged": CHANGE + ["edge"],
               "left_out": CHANGE + ["edge"]},
+    outcomes: {"outcome_count": ["forest"], "outcome": ["forest", "items", "number"],
+               "outcome_number": CHANGE},
+    shares: {"share": ["forest", "start", "end"], "order_share": ["forest", "start", "end"],
+             "share_table": ["forest"]},
+    partial: {"demands": SEEN, "fits": SEEN, "fitting_count": SEEN, "conflict": SEEN,
+              "shows_conflict": SEEN + ["thing"], "least_fitting": SEEN, "certain": SEEN,
+              "share_given": SEEN + ["item", "position"]},
 }
 
 

@@ -3,18 +3,16 @@
 import copy
 import inspect
 import unittest
-from itertools import product
 
 from onceswapped import judge, precede, turns
 from onceswapped.errors import (
     NoArrangement, NoEdge, NoForest, NoOrder, NotReached, NoTurns, SwapError)
 from tests.oracle import after_by, arranged, some_order, turns_by
+from tests.rules import ABCDE, AFTERS, FORESTS, ITEMS, StaysApart, answer_of, check_errors, names_of
 from tests.samples import (
     A, BIG, P, bad_arrangements, bad_orders, error_of, items_for, lists_inside, mixed_forest,
     odd_objects, path_forest, shuffled, star_forest)
 
-ABCDE = list("abcde")
-REACHED = list("bdace")
 FUNCTIONS = [
     turns.is_turns, turns.turns_of_order, turns.after_turns, turns.order_of_turns, judge.can_be,
     judge.reason, judge.shows, judge.turns_of, precede.must_precede, precede.precedes,
@@ -27,13 +25,6 @@ WITH_AFTER = [function for function in FUNCTIONS if "after" in inspect.signature
 WITH_EDGE = (precede.precedes, precede.exchanged, precede.left_out)
 
 # For every argument the values that are tried: what is wrong with each of them, if anything.
-FORESTS = [(A, None), (None, NoForest), (5, NoForest), ((5, A[1], None), NoForest),
-           ((2, [(1, 0)]), NoForest), ((5, [(0, 1), (0, 2), (1, 2)]), NoForest), ((True, []), NoForest)]
-ITEMS = [(ABCDE, None), (tuple("abcde"), NoArrangement), ("abcde", NoArrangement),
-         (list("abcd"), NoArrangement), (list("abcdd"), NoArrangement), (None, NoArrangement)]
-AFTERS = [(REACHED, None), (list("abcde"), NotReached), (list("bacde"), NotReached),
-          (list("ebcda"), NotReached), (list("bdacf"), NoArrangement), (list("bdac"), NoArrangement),
-          (list("bdaca"), NoArrangement), (tuple("bdace"), NoArrangement), (None, NoArrangement)]
 EDGES = [((0, 1), None), ((1, 3), None), ((1, 0), NoEdge), ((0, 2), NoEdge), ((-1, 0), NoEdge),
          ((4, 5), NoEdge), ((BIG, BIG), NoEdge)]
 ORDERS = [(A[1], None), (tuple(A[1]), NoOrder), (A[1][1:], NoOrder), ([(1, 0), (1, 2), (1, 3)], NoOrder),
@@ -44,18 +35,6 @@ TURNS = [([[1], [0, 2, 3], [1], [1], []], None), ([[1], [0, 2, 3], [1], [1]], No
 THINGS = [(None, None), (("ring", [0]), None), ([], None)]
 CHOICES = {"forest": FORESTS, "items": ITEMS, "before": ITEMS, "after": AFTERS, "edge": EDGES, "one": EDGES,
            "other": EDGES, "order": ORDERS, "turns": TURNS, "thing": THINGS}
-
-
-def names_of(function):
-    return list(inspect.signature(function).parameters)
-
-
-def expected_error(function, errors):
-    """The error that decides: the first one, but NotReached comes after all others."""
-    others = [error for error in errors if error not in (None, NotReached)]
-    if others:
-        return others[0]
-    return NotReached if NotReached in errors and function in RAISE_NOT_REACHED else None
 
 
 def valid_arguments(forest, seed):
@@ -104,34 +83,18 @@ def unreached_calls(forest, before, after):
     return found
 
 
-def answer_of(function, arguments):
-    """What a call returns, or the reason that it raises."""
-    try:
-        return function(*arguments)
-    except NotReached as error:
-        return error.reason
-
-
 CASES = (A, P, (1, []), (3, []), path_forest(2), star_forest(9), mixed_forest(20, 1, 0.7))
 
 
 class Errors(unittest.TestCase):
     def test_the_first_invalid_argument_decides(self):
         for function in FUNCTIONS:
-            names = names_of(function)
-            for chosen in product(*[CHOICES[name] for name in names]):
-                values = [value for value, _ in chosen]
-                expected = expected_error(function, [error for _, error in chosen])
-                self.assertIs(error_of(function, *values), expected, (function, values))
+            check_errors(self, function, CHOICES, function in RAISE_NOT_REACHED)
 
     def test_by_name(self):
+        some = {name: choices[:4] for name, choices in CHOICES.items()}
         for function in FUNCTIONS:
-            names = names_of(function)
-            for chosen in product(*[CHOICES[name][:4] for name in names]):
-                values = dict(zip(names, [value for value, _ in chosen]))
-                named = {name: values[name] for name in reversed(names)}
-                expected = expected_error(function, [error for _, error in chosen])
-                self.assertIs(error_of(function, **named), expected)
+            check_errors(self, function, some, function in RAISE_NOT_REACHED, by_name=True)
 
     def test_other_objects(self):
         for function in FUNCTIONS:
@@ -201,7 +164,7 @@ class Errors(unittest.TestCase):
             self.assertIs(judge.shows(A, ABCDE, after, None), False)
 
 
-class Independence(unittest.TestCase):
+class Independence(StaysApart, unittest.TestCase):
     def unreached(self):
         found = unreached_calls(P, list("abcd"), list("acdb"))
         found += unreached_calls(P, list("abcd"), list("dcab"))
@@ -212,14 +175,6 @@ class Independence(unittest.TestCase):
         found = [call for k, forest in enumerate(CASES) for call in calls(forest, k)]
         return found + self.unreached()
 
-    def test_arguments_stay(self):
-        for function, arguments in self.all_calls():
-            kept = repr(arguments)
-            before = [id(part) for part in lists_inside(arguments)]
-            answer_of(function, arguments)
-            self.assertEqual(repr(arguments), kept)
-            self.assertEqual([id(part) for part in lists_inside(arguments)], before)
-
     def test_any_object_stays(self):
         for thing in odd_objects():
             kept = repr(thing)
@@ -228,22 +183,6 @@ class Independence(unittest.TestCase):
                 judge.shows(P, list("abcd"), list(after), thing)
                 precede.order_fits(P, list("abcd"), list(after), thing)
             self.assertEqual(repr(thing), kept)
-
-    def test_by_name(self):
-        for function, arguments in self.all_calls():
-            named = dict(zip(names_of(function), arguments))
-            turned = {name: named[name] for name in reversed(list(named))}
-            try:
-                found = function(**turned)
-            except NotReached as error:
-                found = error.reason
-            self.assertEqual(found, answer_of(function, arguments))
-
-    def test_returned_lists_are_new(self):
-        for function, arguments in self.all_calls():
-            answers = [answer_of(function, arguments) for _ in range(3)]
-            found = lists_inside([arguments, answers])
-            self.assertEqual(len(set(id(part) for part in found)), len(found), function)
 
     def test_lists_of_different_functions_are_different(self):
         for k, forest in enumerate(CASES):
@@ -261,26 +200,6 @@ class Independence(unittest.TestCase):
         reasons[0][1].append(7)
         self.assertEqual(reasons[1:], [("ring", [0])] * 3)
         self.assertEqual(answer_of(judge.turns_of, arguments), ("ring", [0]))
-
-    def test_changed_answers_change_nothing(self):
-        for function, arguments in self.all_calls():
-            first = answer_of(function, arguments)
-            kept = copy.deepcopy(first)
-            for part in lists_inside(first):
-                part.append("more")
-                part.reverse()
-            self.assertEqual(answer_of(function, arguments), kept)
-
-    def test_changed_arguments_change_no_earlier_answer(self):
-        for function, arguments in self.all_calls():
-            changing = copy.deepcopy(arguments)
-            found = answer_of(function, changing)
-            kept = copy.deepcopy(found)
-            for part in lists_inside(changing):
-                part.append("more")
-                part.reverse()
-            self.assertEqual(found, kept)
-            self.assertEqual(answer_of(function, arguments), kept)
 
 
 if __name__ == "__main__":
