@@ -45,8 +45,9 @@ def pair_lists(forest, before, seen):
 
 def first_conflict(forest, before, seen):
     """Return None if some outcome fits, else the first certificate that none does."""
-    for start in strays(forest, before, seen):
-        return ("moved", start)
+    starts = strays(forest, before, seen)
+    if starts:
+        return ("moved", starts[0])
     lists = pair_lists(forest, before, seen)
     for position, circle in enumerate(_circles(forest)):
         found = conflict_in(circle, lists[position])

@@ -62,6 +62,13 @@ def check_position(forest, position):
         raise NoPosition("the forest has no such position")
 
 
+def check_ends(forest, start, end):
+    """Raise the first error of a forest, any object, and two of its positions."""
+    check_forest(forest)
+    check_position(forest, start)
+    check_position(forest, end)
+
+
 def is_edge_of(forest, thing):
     """Return whether a thing, any object, is an edge of a valid forest."""
     n, edges = forest
@@ -145,7 +152,5 @@ def trees(forest):
 
 def path(forest, start, end):
     """Return the positions of the path from start to end, or None between two trees."""
-    check_forest(forest)
-    check_position(forest, start)
-    check_position(forest, end)
+    check_ends(forest, start, end)
     return way_between(forest, start, end)

@@ -2,7 +2,7 @@
 
 from math import factorial, gcd
 
-from onceswapped.forests import check_forest, check_position, neighbour_lists, way_between
+from onceswapped.forests import check_ends, check_forest, neighbour_lists, way_between
 
 
 def lowest(top, bottom):
@@ -34,9 +34,7 @@ def share_between(forest, start, end):
 
 def share(forest, start, end):
     """Return the fraction of all outcomes in which the item from start ends at end."""
-    check_forest(forest)
-    check_position(forest, start)
-    check_position(forest, end)
+    check_ends(forest, start, end)
     return share_between(forest, start, end)
 
 
@@ -59,9 +57,7 @@ def _signed_choices(many):
 
 def order_share(forest, start, end):
     """Return the fraction of all orders in which the item from start ends at end."""
-    check_forest(forest)
-    check_position(forest, start)
-    check_position(forest, end)
+    check_ends(forest, start, end)
     way = way_between(forest, start, end)
     if way is None or start == end:
         return share_between(forest, start, end)

@@ -4,7 +4,8 @@ import os
 import unittest
 
 import onceswapped
-from onceswapped import arrange, forests, judge, outcomes, partial, precede, shares, turns
+from onceswapped import (
+    arrange, forests, judge, live, outcomes, partial, precede, series, session, shares, texts, turns)
 
 CHANGE = ["forest", "before", "after"]
 SEEN = ["forest", "before", "seen"]
@@ -27,7 +28,16 @@ INTERFACE = {
     partial: {"demands": SEEN, "fits": SEEN, "fitting_count": SEEN, "conflict": SEEN,
               "shows_conflict": SEEN + ["thing"], "least_fitting": SEEN, "certain": SEEN,
               "share_given": SEEN + ["item", "position"]},
+    series: {"series_share": ["forests", "start", "end"], "series_after": ["forests", "before"],
+             "series_count": ["forests", "before", "after"], "series_plan": ["forests", "before", "after"]},
+    texts: {"write_items": ["items"], "read_items": ["text"], "write_seen": ["seen"], "read_seen": ["text"],
+            "write_edges": ["edges"], "read_edges": ["text"], "write_turns": ["turns"], "read_turns": ["text"]},
+    session: {"session": ["rows"]},
+    live: {"Tracker": ["items"]},
 }
+METHODS = {"bundle": ["edges"], "swap": ["p", "q"], "see": ["position", "item"], "see_all": ["items"], "undo": [],
+           "mark": [], "undo_to": ["mark"], "possible": [], "known": [], "may_hold": ["position"],
+           "where": ["item"], "history": [], "__len__": [], "twin": []}
 
 
 class Interface(unittest.TestCase):
@@ -44,6 +54,13 @@ class Interface(unittest.TestCase):
         for module, functions in INTERFACE.items():
             for name in functions:
                 self.assertEqual(getattr(module, name).__module__, module.__name__)
+
+    def test_methods_are_defined_in_their_class(self):
+        for name, names in METHODS.items():
+            method = vars(live.Tracker)[name]
+            self.assertTrue(inspect.isfunction(method), name)
+            self.assertEqual(list(inspect.signature(method).parameters)[1:], names)
+        self.assertNotIn("__eq__", vars(live.Tracker))
 
     def test_the_package_holds_python_files_only(self):
         names = os.listdir(os.path.dirname(onceswapped.__file__))
