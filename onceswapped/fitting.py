@@ -1,6 +1,7 @@
-"""The outcomes of a valid forest that fit a valid observation.
+"""The outcomes of a forest that fit an observation; all arguments are valid.
 
-The pairs that the seen items put on a position are about its circle: see onceswapped.circles.
+Of a forest only the neighbours of every position are needed. The pairs that the seen items put on
+a position are about its circle: see onceswapped.circles.
 """
 
 from math import factorial
@@ -10,14 +11,20 @@ from onceswapped.circles import (
 from onceswapped.forests import neighbour_lists, way_between
 
 
-def _circles(forest):
+def _circles(nearby):
     """Return for every position the list of itself and its neighbours."""
-    return [[position] + nearby for position, nearby in enumerate(neighbour_lists(forest))]
+    return [[position] + row for position, row in enumerate(nearby)]
 
 
-def seen_ends(before, seen):
-    """Return the ascending list of (start, end) for the items that are seen."""
-    return sorted([(before.index(item), end) for end, item in enumerate(seen) if item is not None])
+def seen_ways(nearby, before, seen):
+    """Return the ascending list of (start, way) for the seen items, the way None to another tree."""
+    ends = sorted([(before.index(item), end) for end, item in enumerate(seen) if item is not None])
+    return [(start, way_between(nearby, start, end)) for start, end in ends]
+
+
+def strays(ways):
+    """Return the ascending list of the starts of the items that are seen in another tree."""
+    return [start for start, way in ways if way is None]
 
 
 def _steps(way):
@@ -25,31 +32,23 @@ def _steps(way):
     return list(zip(way, way[:1] + way[:-1], way[1:] + way[-1:]))
 
 
-def strays(forest, before, seen):
-    """Return the ascending list of the starts of the items that are seen in another tree."""
-    return [start for start, end in seen_ends(before, seen)
-            if way_between(forest, start, end) is None]
-
-
-def pair_lists(forest, before, seen):
-    """Return for every position the ascending list of the pairs that the seen items put there."""
-    nearby = neighbour_lists(forest)
+def pair_lists(nearby, ways):
+    """Return for every position the ascending list of the pairs that items put there on their ways."""
     pairs = [[] for _ in nearby]
-    for start, end in seen_ends(before, seen):
-        way = way_between(forest, start, end)
+    for start, way in ways:
         if way is not None and nearby[start]:
             for position, x, y in _steps(way):
                 pairs[position].append((x, y))
     return [sorted(set(row)) for row in pairs]
 
 
-def first_conflict(forest, before, seen):
-    """Return None if some outcome fits, else the first certificate that none does."""
-    starts = strays(forest, before, seen)
+def first_conflict(nearby, ways):
+    """Return None if all items can take their ways at once, else the first certificate."""
+    starts = strays(ways)
     if starts:
         return ("moved", starts[0])
-    lists = pair_lists(forest, before, seen)
-    for position, circle in enumerate(_circles(forest)):
+    lists = pair_lists(nearby, ways)
+    for position, circle in enumerate(_circles(nearby)):
         found = conflict_in(circle, lists[position])
         if found is not None:
             word, about = found
@@ -85,18 +84,18 @@ def _all_sources(rows):
 
 def outcome_sources(forest):
     """Return for every outcome, by its number, where the item at each position started."""
-    return _all_sources([rows_in(circle, []) for circle in _circles(forest)])
+    return _all_sources([rows_in(circle, []) for circle in _circles(neighbour_lists(forest))])
 
 
 class Fitting:
     """The outcomes that fit an observation: at least one, and perhaps too many to list them."""
 
-    def __init__(self, forest, before, seen):
-        self._forest = forest
+    def __init__(self, nearby, before, seen):
+        self._nearby = nearby
         self._before = before
         self._seen = seen
-        lists = pair_lists(forest, before, seen)
-        self._rows = [rows_in(circle, pairs) for circle, pairs in zip(_circles(forest), lists)]
+        lists = pair_lists(nearby, seen_ways(nearby, before, seen))
+        self._rows = [rows_in(circle, pairs) for circle, pairs in zip(_circles(nearby), lists)]
 
     def possible(self):
         """Return how many outcomes fit."""
@@ -123,7 +122,7 @@ class Fitting:
 
     def share(self, item, position):
         """Return the fraction of them in which an item is at a position."""
-        way = way_between(self._forest, self._before.index(item), position)
+        way = way_between(self._nearby, self._before.index(item), position)
         if way is None:
             return (0, 1)
         bottom = 1
@@ -150,13 +149,13 @@ class Fitting:
             return None
         seen = list(self._seen)
         seen[position] = item
-        return Fitting(self._forest, self._before, seen)
+        return Fitting(self._nearby, self._before, seen)
 
     def holds(self, items):
         """Return whether an arrangement of these items is one of them."""
         if not all([entry in (None, item) for entry, item in zip(self._seen, items)]):
             return False
-        return first_conflict(self._forest, self._before, items) is None
+        return first_conflict(self._nearby, seen_ways(self._nearby, self._before, items)) is None
 
     def ways(self):
         """Return all of them as tuples, each with the number of its ways: one."""

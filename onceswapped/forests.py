@@ -98,12 +98,11 @@ def neighbour_lists(forest):
     return lists
 
 
-def steps_towards(forest, goal):
+def steps_towards(nearby, goal):
     """Return for every position of the goal's tree the next one on the path to the goal.
 
     The keys are exactly the positions of the tree; the goal itself has None.
     """
-    nearby = neighbour_lists(forest)
     steps = {goal: None}
     waiting = [goal]
     while waiting:
@@ -115,9 +114,9 @@ def steps_towards(forest, goal):
     return steps
 
 
-def way_between(forest, start, end):
-    """Return the path between two positions of a valid forest, or None between two trees."""
-    steps = steps_towards(forest, end)
+def way_between(nearby, start, end):
+    """Return the path between two positions, or None between two trees."""
+    steps = steps_towards(nearby, end)
     if start not in steps:
         return None
     way = [start]
@@ -128,7 +127,8 @@ def way_between(forest, start, end):
 
 def tree_lists(forest):
     """Return for every position of a valid forest the ascending list of its tree's positions."""
-    return [sorted(steps_towards(forest, position)) for position in range(forest[0])]
+    nearby = neighbour_lists(forest)
+    return [sorted(steps_towards(nearby, position)) for position in range(forest[0])]
 
 
 def neighbours(forest, position):
@@ -153,4 +153,4 @@ def trees(forest):
 def path(forest, start, end):
     """Return the positions of the path from start to end, or None between two trees."""
     check_ends(forest, start, end)
-    return way_between(forest, start, end)
+    return way_between(neighbour_lists(forest), start, end)

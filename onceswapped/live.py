@@ -3,14 +3,15 @@
 from onceswapped.arrange import check_arrangement, check_change
 from onceswapped.errors import NoArrangement, NoEdge, NoItem, NoNumber, Nothing, NotReached
 from onceswapped.fitting import Fitting, outcome_sources
-from onceswapped.forests import MOST_POSITIONS, check_forest, check_position, edge_between, is_position
+from onceswapped.forests import (
+    MOST_POSITIONS, check_forest, check_position, edge_between, is_position, neighbour_lists)
 from onceswapped.listing import Listing, check_many, spread
 from onceswapped.outcomes import outcome_count
 
 
 def _outcomes_of(forest, items):
     """Return the outcomes of a forest from one arrangement, of which nothing is seen yet."""
-    return Fitting(forest, list(items), [None for _ in items])
+    return Fitting(neighbour_lists(forest), list(items), [None for _ in items])
 
 
 def _next_state(state, forest):

@@ -2,7 +2,7 @@
 
 from onceswapped.arrange import check_arrangement
 from onceswapped.errors import NoItem, NoObservation, NotReached
-from onceswapped.fitting import Fitting, first_conflict, pair_lists, strays
+from onceswapped.fitting import Fitting, first_conflict, pair_lists, seen_ways, strays
 from onceswapped.forests import check_forest, check_position, is_integer, is_position, neighbour_lists
 
 
@@ -22,21 +22,29 @@ def _check_seen(forest, before, seen):
         raise NoObservation("this is no observation of the items")
 
 
+def _ways(forest, before, seen):
+    """Return the neighbours of every position, and the ways of the seen items."""
+    nearby = neighbour_lists(forest)
+    return (nearby, seen_ways(nearby, before, seen))
+
+
 def _fitting(forest, before, seen):
-    """Return the outcomes that fit valid arguments; raise NotReached if there are none."""
-    why = first_conflict(forest, before, seen)
+    """Return the outcomes that fit; raise NotReached if there are none."""
+    nearby, ways = _ways(forest, before, seen)
+    why = first_conflict(nearby, ways)
     if why is not None:
         raise NotReached(why)
-    return Fitting(forest, before, seen)
+    return Fitting(nearby, before, seen)
 
 
 def demands(forest, before, seen):
     """Return for every position the ascending list of the pairs that the seen items put there."""
     _check_seen(forest, before, seen)
-    starts = strays(forest, before, seen)
+    nearby, ways = _ways(forest, before, seen)
+    starts = strays(ways)
     if starts:
         raise NotReached(("moved", starts[0]))
-    return pair_lists(forest, before, seen)
+    return pair_lists(nearby, ways)
 
 
 def fits(forest, before, seen):
@@ -48,13 +56,14 @@ def fitting_count(forest, before, seen):
     """Return how many outcomes fit."""
     if not fits(forest, before, seen):
         return 0
-    return Fitting(forest, before, seen).possible()
+    return Fitting(neighbour_lists(forest), before, seen).possible()
 
 
 def conflict(forest, before, seen):
     """Return None if some outcome fits, else the first certificate that none does."""
     _check_seen(forest, before, seen)
-    return first_conflict(forest, before, seen)
+    nearby, ways = _ways(forest, before, seen)
+    return first_conflict(nearby, ways)
 
 
 def _shows_loop(circle, pairs, row):
@@ -67,12 +76,12 @@ def _shows_loop(circle, pairs, row):
     return all([pair in pairs for pair in zip(row, row[1:] + row[:1])])
 
 
-def _shows_at(forest, pairs, thing):
-    """Return whether three entries, the middle one a position, are about a conflict of its pairs."""
-    word, position, about = thing
+def _shows_at(circle, pairs, word, about):
+    """Return whether a word and what it is about, any objects, are a conflict of a position's pairs."""
     if word == "loop":
-        return _shows_loop([position] + neighbour_lists(forest)[position], pairs, about)
-    if not is_position(forest[0], about):
+        return _shows_loop(circle, pairs, about)
+    # Python takes True for equal to 1, so counting alone would let it pass.
+    if not is_integer(about):
         return False
     if word == "from":
         return [x for x, _ in pairs].count(about) > 1
@@ -84,18 +93,21 @@ def shows_conflict(forest, before, seen, thing):
     _check_seen(forest, before, seen)
     if not isinstance(thing, tuple) or not 2 <= len(thing) <= 3:
         return False
-    if not is_position(forest[0], thing[1]):
+    position = thing[1]
+    if not is_position(forest[0], position):
         return False
+    nearby, ways = _ways(forest, before, seen)
     if len(thing) == 2:
-        return thing[0] == "moved" and thing[1] in strays(forest, before, seen)
-    return _shows_at(forest, pair_lists(forest, before, seen)[thing[1]], thing)
+        return thing[0] == "moved" and position in strays(ways)
+    circle = [position] + nearby[position]
+    return _shows_at(circle, pair_lists(nearby, ways)[position], thing[0], thing[2])
 
 
 def least_fitting(forest, before, seen):
     """Return the fitting outcome with the least number, or None."""
     if not fits(forest, before, seen):
         return None
-    return Fitting(forest, before, seen).least()
+    return Fitting(neighbour_lists(forest), before, seen).least()
 
 
 def certain(forest, before, seen):

@@ -11,31 +11,24 @@ def lowest(top, bottom):
     return (top // shared, bottom // shared)
 
 
-def _degrees_on(forest, way):
-    """Return the degrees of the positions on a way."""
-    nearby = neighbour_lists(forest)
-    return [len(nearby[position]) for position in way]
-
-
-def share_between(forest, start, end):
-    """Return the share of two positions of a valid forest."""
-    way = way_between(forest, start, end)
+def _share(nearby, start, end):
+    """Return the share of two positions that exist."""
+    way = way_between(nearby, start, end)
     if way is None:
         return (0, 1)
-    many = _degrees_on(forest, way)
     if start == end:
-        return (0, 1) if many[0] > 0 else (1, 1)
-    # At each position of the way, one of its entries is in the one right place of its turn.
+        return (0, 1) if nearby[start] else (1, 1)
+    # At each position of the way, one certain neighbour must be in the one right place of its turn.
     bottom = 1
-    for degree in many:
-        bottom *= degree
+    for position in way:
+        bottom *= len(nearby[position])
     return (1, bottom)
 
 
 def share(forest, start, end):
     """Return the fraction of all outcomes in which the item from start ends at end."""
     check_ends(forest, start, end)
-    return share_between(forest, start, end)
+    return _share(neighbour_lists(forest), start, end)
 
 
 def _times(one, other):
@@ -58,11 +51,12 @@ def _signed_choices(many):
 def order_share(forest, start, end):
     """Return the fraction of all orders in which the item from start ends at end."""
     check_ends(forest, start, end)
-    way = way_between(forest, start, end)
-    if way is None or start == end:
-        return share_between(forest, start, end)
+    nearby = neighbour_lists(forest)
+    way = way_between(nearby, start, end)
+    if way is None:
+        return (0, 1)
     edges = len(way) - 1
-    aside = [degree - 2 for degree in _degrees_on(forest, way)]
+    aside = [len(nearby[position]) - 2 for position in way]
     aside[0] += 1
     aside[-1] += 1
     # The edges of the way must come in its order, and no edge aside of a position may come between
@@ -80,5 +74,6 @@ def order_share(forest, start, end):
 def share_table(forest):
     """Return the list of n lists in which entry [v][u] is the share from v to u."""
     check_forest(forest)
+    nearby = neighbour_lists(forest)
     positions = list(range(forest[0]))
-    return [[share_between(forest, start, end) for end in positions] for start in positions]
+    return [[_share(nearby, start, end) for end in positions] for start in positions]

@@ -815,6 +815,9 @@ class Apart(unittest.TestCase):
         self.assertEqual(twin.known(), [None, None, "a", None, "e"])
         tracker.undo_to(0)
         self.assertEqual(tracker.possible(), 6)
+        tracker.undo()
+        self.assertEqual(tracker.known(), list("abcde"))
+        tracker.bundle(A_EDGES)
         self.assertIs(error_of(tracker.see_all, []), NoArrangement)
 
 
