@@ -204,6 +204,14 @@ class ShowsTrue(unittest.TestCase):
             self.assertIs(shows_conflict(HUB, ITEMS, seen, ("loop", 0, row)), True)
             self.assertIs(shows_conflict(HUB, ITEMS, seen, ("loop", 0, row[::-1])), False)
 
+    def test_a_row_begun_at_any_entry_with_an_item_in_another_tree(self):
+        seen = seen_at(10, b=4, e=2, c=1, a=8, j=7)
+        self.assertEqual(conflict(HUB, ITEMS, seen), ("moved", 0))
+        for row in ([1, 4, 2], [4, 2, 1], [2, 1, 4]):
+            self.assertIs(shows_conflict(HUB, ITEMS, seen, ("loop", 0, row)), True)
+            self.assertIs(shows_conflict(HUB, ITEMS, seen, ("loop", 0, row[::-1])), False)
+        self.assertIs(shows_conflict(HUB, ITEMS, seen, ("moved", 9)), True)
+
     def test_another_position_and_another_row(self):
         seen = seen_at(10, b=2, c=1, d=4, e=3, i=8, j=9)
         for thing in (("loop", 0, [1, 2]), ("loop", 0, [2, 1]), ("loop", 0, [3, 4]), ("loop", 0, [4, 3]),

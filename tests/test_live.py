@@ -490,7 +490,9 @@ class Errors(unittest.TestCase):
                 self.assertIs(error_of(Tracker, items=thing), NoArrangement, thing)
         for n in range(1, 41):
             self.assertEqual(Tracker(items_for(n)).known(), items_for(n))
-        self.assertIs(error_of(Tracker, [letter * k for letter in "abcdefghijk" for k in (1, 2, 3, 4)][:41]), NoArrangement)
+        words = [letter * k for letter in "abcdefghijk" for k in (1, 2, 3, 4)]
+        self.assertIs(error_of(Tracker, words[:41]), NoArrangement)
+        self.assertIsNone(error_of(Tracker, words[:40]))
 
     def test_no_forest(self):
         for tracker in self.trackers():

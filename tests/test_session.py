@@ -222,8 +222,8 @@ class Lines(unittest.TestCase):
 
     def test_see_and_all(self):
         for row, answer in (("see 5 a", "NoPosition"), ("see 999999999 x", "NoPosition"), ("see 0 x", "NoItem"),
-                            ("see 0 A", "NoItem"), ("see 0 ?", "NoItem"), ("see 0 0", "NoItem"), ("see 0 a", "NotReached"),
-                            ("see 2 a", "ok"), ("all b d a c e", "ok"), ("all a b c d e", "NotReached"),
+                            ("see 0 A", "NoItem"), ("see 0 ?", "NoItem"), ("see 0 0", "NoItem"),
+                            ("see 0 a", "NotReached"), ("see 2 a", "ok"), ("all b d a c e", "ok"), ("all a b c d e", "NotReached"),
                             ("all a b c d", "NoArrangement"), ("all a b c d f", "NoArrangement"),
                             ("all a a b c d", "NoArrangement"), ("all ? ? a ? e", "NoArrangement"),
                             ("all " + "a " * 50 + "b", "NoArrangement"), ("all 0", "NoArrangement")):
